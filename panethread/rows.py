@@ -1,0 +1,78 @@
+"""Rows and plain rows: what they are, parted, turned about, named anew, their places and stretches."""
+
+from panethread.errors import NoNames, NoPlain, NoRow, NoSpan
+from panethread.kinds import LETTERS, MOST_LETTERS, MOST_SIGNS, POINT, is_letter, is_span
+
+
+def is_row(thing):
+    if not isinstance(thing, str) or len(thing) > MOST_SIGNS:
+        return False
+    return all([sign in LETTERS + POINT for sign in thing])
+
+
+def is_plain(thing):
+    if not isinstance(thing, str) or len(thing) > MOST_LETTERS:
+        return False
+    return all([sign in LETTERS for sign in thing])
+
+
+def need_row(thing):
+    if not is_row(thing):
+        raise NoRow(thing)
+
+
+def need_rows(side, top):
+    need_row(side)
+    need_row(top)
+
+
+def parted(row):
+    if not is_plain(row):
+        raise NoPlain(row)
+    return "".join([POINT + letter for letter in row])
+
+
+def unparted(row):
+    need_row(row)
+    plain = row[1::2]
+    if not is_plain(plain) or parted(plain) != row:
+        raise NoRow(row)
+    return plain
+
+
+def turned(row):
+    need_row(row)
+    return "".join(reversed(row))
+
+
+def are_names(thing):
+    if not isinstance(thing, dict):
+        return False
+    old = list(thing.keys())
+    new = list(thing.values())
+    # Only letters are sorted: other things may not let themselves be compared.
+    if not all([is_letter(name) for name in old + new]):
+        return False
+    return sorted(old) == sorted(new)
+
+
+def renamed(row, names):
+    need_row(row)
+    if not are_names(names):
+        raise NoNames(names)
+    return "".join([names.get(sign, sign) for sign in row])
+
+
+def places_of(row):
+    need_row(row)
+    places = {}
+    for place, sign in enumerate(row):
+        places.setdefault(sign, []).append(place)
+    return places
+
+
+def stretch_of(row, begin, end):
+    need_row(row)
+    if not is_span(begin, end, len(row)):
+        raise NoSpan(begin, end)
+    return row[begin:end]
