@@ -1,6 +1,6 @@
-"""What is a whole number, a letter, a stretch, a pair: asked by all the other files, so that it is said once."""
+"""What is a whole number, a letter, a sign, a stretch, a pair: asked by the other files, so that it is said once."""
 
-from panethread.errors import NoPlace
+from panethread.errors import NoLetter, NoPlace, NoSpan
 
 LETTERS = "abcdefghijklmnopqrstuvwxyz"
 POINT = "."
@@ -23,6 +23,10 @@ def is_letter(thing):
     return isinstance(thing, str) and len(thing) == 1 and thing in LETTERS
 
 
+def is_sign(thing):
+    return is_letter(thing) or thing == POINT
+
+
 def is_span(begin, end, many):
     return is_within(begin, 0, many) and is_within(end, begin, many)
 
@@ -34,3 +38,13 @@ def is_pair(thing):
 def need_place(thing, low, high):
     if not is_within(thing, low, high):
         raise NoPlace(thing)
+
+
+def need_span(begin, end, many):
+    if not is_span(begin, end, many):
+        raise NoSpan(begin, end)
+
+
+def need_sign(thing):
+    if not is_sign(thing):
+        raise NoLetter(thing)

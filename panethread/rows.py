@@ -1,7 +1,7 @@
 """Rows and plain rows: what they are, parted, turned about, named anew, their places and stretches."""
 
-from panethread.errors import NoNames, NoPlain, NoRow, NoSpan
-from panethread.kinds import LETTERS, MOST_LETTERS, MOST_SIGNS, POINT, is_letter, is_span
+from panethread.errors import NoNames, NoPlain, NoRow
+from panethread.kinds import LETTERS, MOST_LETTERS, MOST_SIGNS, POINT, is_letter, need_span
 
 
 def is_row(thing):
@@ -26,9 +26,13 @@ def need_rows(side, top):
     need_row(top)
 
 
+def need_plain(thing):
+    if not is_plain(thing):
+        raise NoPlain(thing)
+
+
 def parted(row):
-    if not is_plain(row):
-        raise NoPlain(row)
+    need_plain(row)
     return "".join([POINT + letter for letter in row])
 
 
@@ -73,6 +77,5 @@ def places_of(row):
 
 def stretch_of(row, begin, end):
     need_row(row)
-    if not is_span(begin, end, len(row)):
-        raise NoSpan(begin, end)
+    need_span(begin, end, len(row))
     return row[begin:end]
