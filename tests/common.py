@@ -7,7 +7,9 @@ from bisect import bisect_left
 
 from panethread.asks import Asks
 from panethread.boards import Board
+from panethread.costs import Costs
 from panethread.errors import NoPlace, NoRow, NoSpan, PaneError
+from panethread.kept import Kept
 from panethread.pieces import Blank, One
 from panethread.tallies import Tally
 
@@ -42,7 +44,8 @@ def odd_things():
     dicts = [{}, {"a": "a"}, {"a": "b", "b": "a"}, {0: 0}, {True: "a"}, {None: []}, {(0, 1): (0, 1)}, {"a": []},
              {"a": {"b": {}}}]
     own = [PaneError("words"), NoRow("A"), NoSpan(0, None), [NoPlace(3)], Board("a", "b"), [Board("", "")],
-           Tally([1, 0]), Asks([0], 0), One("a", "b"), [Blank("", "")], (One(".", "a"), One("a", "a"))]
+           Tally([1, 0]), Asks([0], 0), One("a", "b"), [Blank("", "")], (One(".", "a"), One("a", "a")),
+           Kept("a", "b"), [Kept("", "")], Costs("ab", "b")]
     great = [[0] * 19999, [(0, 0)] * 6000, [[]] * 19999, [[(0, 0)]] * 4000, ["x"] * 19999, tuple(range(19999))]
     return numbers + truths + texts + lists + tuples + dicts + own + great
 
