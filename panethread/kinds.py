@@ -7,6 +7,8 @@ POINT = "."
 MOST_SIGNS = 48
 MOST_LETTERS = 24
 MOST_LINES = 96
+SIDE = "side"
+TOP = "top"
 
 
 def is_number(thing):
@@ -47,4 +49,9 @@ def need_span(begin, end, many):
 
 def need_sign(thing):
     if not is_sign(thing):
+        raise NoLetter(thing)
+
+
+def need_letter(thing):
+    if not is_letter(thing):
         raise NoLetter(thing)

@@ -1,7 +1,7 @@
-"""Rows and plain rows: what they are, parted, turned about, named anew, their places and stretches."""
+"""Rows and plain rows: what they are, parted, turned about, named anew, their places and stretches, their letters."""
 
-from panethread.errors import NoNames, NoPlain, NoRow
-from panethread.kinds import LETTERS, MOST_LETTERS, MOST_SIGNS, POINT, is_letter, need_span
+from panethread.errors import NoNames, NoPlain, NoRow, TooLong
+from panethread.kinds import LETTERS, MOST_LETTERS, MOST_SIGNS, POINT, is_letter, need_letter, need_place, need_span
 
 
 def is_row(thing):
@@ -79,3 +79,23 @@ def stretch_of(row, begin, end):
     need_row(row)
     need_span(begin, end, len(row))
     return row[begin:end]
+
+
+def with_letter(row, place, letter):
+    # row is a plain one here and in the next two, and has to stay so.
+    need_place(place, 0, len(row))
+    need_letter(letter)
+    if len(row) >= MOST_LETTERS:
+        raise TooLong(len(row) + 1)
+    return row[:place] + letter + row[place:]
+
+
+def without_letter(row, place):
+    need_place(place, 0, len(row) - 1)
+    return row[:place] + row[place + 1:]
+
+
+def with_other_letter(row, place, letter):
+    need_place(place, 0, len(row) - 1)
+    need_letter(letter)
+    return row[:place] + letter + row[place + 1:]
