@@ -7,8 +7,6 @@ POINT = "."
 MOST_SIGNS = 48
 MOST_LETTERS = 24
 MOST_LINES = 96
-SIDE = "side"
-TOP = "top"
 
 
 def is_number(thing):

@@ -1,7 +1,10 @@
 """Rows and plain rows: what they are, parted, turned about, named anew, their places and stretches, their letters."""
 
-from panethread.errors import NoNames, NoPlain, NoRow, TooLong
+from panethread.errors import NoNames, NoPart, NoPlain, NoRow, TooLong
 from panethread.kinds import LETTERS, MOST_LETTERS, MOST_SIGNS, POINT, is_letter, need_letter, need_place, need_span
+
+SIDE = "side"
+TOP = "top"
 
 
 def is_row(thing):
@@ -81,21 +84,36 @@ def stretch_of(row, begin, end):
     return row[begin:end]
 
 
-def with_letter(row, place, letter):
-    # row is a plain one here and in the next two, and has to stay so.
+def row_called(rows, part):
+    # rows is a tuple of a side and a top, both plain here and below, and they have to stay so.
+    if part == SIDE:
+        return rows[0]
+    if part == TOP:
+        return rows[1]
+    raise NoPart(part)
+
+
+def with_row(rows, part, row):
+    return (row, rows[1]) if part == SIDE else (rows[0], row)
+
+
+def with_put(rows, part, place, letter):
+    row = row_called(rows, part)
     need_place(place, 0, len(row))
     need_letter(letter)
     if len(row) >= MOST_LETTERS:
         raise TooLong(len(row) + 1)
-    return row[:place] + letter + row[place:]
+    return with_row(rows, part, row[:place] + letter + row[place:])
 
 
-def without_letter(row, place):
+def with_drop(rows, part, place):
+    row = row_called(rows, part)
     need_place(place, 0, len(row) - 1)
-    return row[:place] + row[place + 1:]
+    return with_row(rows, part, row[:place] + row[place + 1:])
 
 
-def with_other_letter(row, place, letter):
+def with_change(rows, part, place, letter):
+    row = row_called(rows, part)
     need_place(place, 0, len(row) - 1)
     need_letter(letter)
-    return row[:place] + letter + row[place + 1:]
+    return with_row(rows, part, row[:place] + letter + row[place + 1:])

@@ -1,24 +1,22 @@
 """A watch: the near list of two plain rows and a limit, all of which change, with the news of each change."""
 
 from panethread.costs import cost_paper
-from panethread.errors import NoPart
-from panethread.kinds import SIDE, TOP, need_place, need_span
+from panethread.kinds import need_place, need_span
 from panethread.near import near, news_of
-from panethread.rows import with_letter, with_other_letter, without_letter
+from panethread.rows import with_change, with_drop, with_put
 
 
 class Watch:
     def __init__(self, side, top, most):
         self.held_near = near(side, top, most)
-        self.held_side = side
-        self.held_top = top
+        self.held_rows = (side, top)
         self.held_most = most
 
     def side(self):
-        return self.held_side
+        return self.held_rows[0]
 
     def top(self):
-        return self.held_top
+        return self.held_rows[1]
 
     def most(self):
         return self.held_most
@@ -27,7 +25,7 @@ class Watch:
         return list(self.held_near)
 
     def rank(self, begin, end):
-        need_span(begin, end, len(self.held_top))
+        need_span(begin, end, len(self.top()))
         for place, priced in enumerate(self.held_near):
             if (priced[1], priced[2]) == (begin, end):
                 return place
@@ -36,38 +34,25 @@ class Watch:
     def paper(self, rank):
         need_place(rank, 0, len(self.held_near) - 1)
         priced = self.held_near[rank]
-        return cost_paper(self.held_side, self.held_top[priced[1]:priced[2]])
+        return cost_paper(self.side(), self.top()[priced[1]:priced[2]])
 
-    def renewed(self, side, top, most):
+    def renewed(self, rows, most):
         ahead = self.held_near
         # Nothing is kept ahead of this, since it may still be refused.
-        behind = near(side, top, most)
+        behind = near(rows[0], rows[1], most)
         self.held_near = behind
-        self.held_side = side
-        self.held_top = top
+        self.held_rows = rows
         self.held_most = most
         return news_of(ahead, behind)
 
-    def row_called(self, part):
-        if part == SIDE:
-            return self.held_side
-        if part == TOP:
-            return self.held_top
-        raise NoPart(part)
-
-    def with_row(self, part, row):
-        if part == SIDE:
-            return self.renewed(row, self.held_top, self.held_most)
-        return self.renewed(self.held_side, row, self.held_most)
-
     def put(self, part, place, letter):
-        return self.with_row(part, with_letter(self.row_called(part), place, letter))
+        return self.renewed(with_put(self.held_rows, part, place, letter), self.held_most)
 
     def drop(self, part, place):
-        return self.with_row(part, without_letter(self.row_called(part), place))
+        return self.renewed(with_drop(self.held_rows, part, place), self.held_most)
 
     def change(self, part, place, letter):
-        return self.with_row(part, with_other_letter(self.row_called(part), place, letter))
+        return self.renewed(with_change(self.held_rows, part, place, letter), self.held_most)
 
     def limit(self, most):
-        return self.renewed(self.held_side, self.held_top, most)
+        return self.renewed(self.held_rows, most)

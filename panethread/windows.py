@@ -10,23 +10,29 @@ def moved(pairs, down, right):
     return [(pair[0] + down, pair[1] + right) for pair in pairs]
 
 
+def moved_heaps(heaps, down, right):
+    return [moved(heap, down, right) for heap in heaps]
+
+
 def window_paper(side, top, first, last, begin, end):
     need_rows(side, top)
     need_window((first, last, begin, end), len(side), len(top))
     paper = paper_of(side[first:last], top[begin:end])
-    return (moved(paper[0], first, begin), [moved(heap, first, begin) for heap in paper[1]])
+    return (moved(paper[0], first, begin), moved_heaps(paper[1], first, begin))
 
 
 def are_pairs(thing):
     return isinstance(thing, list) and all([is_pair(pair) for pair in thing])
 
 
+def are_lists_of_pairs(thing):
+    return isinstance(thing, list) and all([are_pairs(part) for part in thing])
+
+
 def is_paper_of_pairs(thing):
     if not isinstance(thing, tuple) or len(thing) != 2:
         return False
-    if not are_pairs(thing[0]) or not isinstance(thing[1], list):
-        return False
-    return all([are_pairs(heap) for heap in thing[1]])
+    return are_pairs(thing[0]) and are_lists_of_pairs(thing[1])
 
 
 def shows_window(side, top, first, last, begin, end, thing):
@@ -35,5 +41,5 @@ def shows_window(side, top, first, last, begin, end, thing):
     # Only pairs of whole numbers can be moved back to the places of the cut rows.
     if not is_paper_of_pairs(thing):
         return False
-    paper = (moved(thing[0], -first, -begin), [moved(heap, -first, -begin) for heap in thing[1]])
+    paper = (moved(thing[0], -first, -begin), moved_heaps(thing[1], -first, -begin))
     return shows(side[first:last], top[begin:end], paper)

@@ -8,6 +8,7 @@ from bisect import bisect_left
 from panethread.asks import Asks
 from panethread.boards import Board
 from panethread.costs import Costs
+from panethread.desk import Desk
 from panethread.errors import NoPlace, NoRow, NoSpan, PaneError
 from panethread.kept import Kept
 from panethread.pieces import Blank, One
@@ -48,7 +49,7 @@ def odd_things():
     own = [PaneError("words"), NoRow("A"), NoSpan(0, None), [NoPlace(3)], Board("a", "b"), [Board("", "")],
            Tally([1, 0]), Asks([0], 0), One("a", "b"), [Blank("", "")], (One(".", "a"), One("a", "a")),
            Kept("a", "b"), [Kept("", "")], Costs("ab", "b"), Watch("a", "ab", 1), [Watch("", "", 0)], Ring("a", "ab"),
-           [Ring("", "b")]]
+           [Ring("", "b")], Desk(), [Desk()]]
     great = [[0] * 19999, [(0, 0)] * 6000, [[]] * 19999, [[(0, 0)]] * 4000, ["x"] * 19999, tuple(range(19999))]
     return numbers + truths + texts + lists + tuples + dicts + own + great
 

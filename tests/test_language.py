@@ -84,6 +84,43 @@ class Language(unittest.TestCase):
             self.assertTrue(ready, "files that draw from one another")
             settled.extend(ready)
 
+    def test_names_come_from_the_file_that_binds_them(self):
+        bound = {}
+        for path, tree in trees():
+            defined = [node.name for node in tree.body if isinstance(node, (ast.FunctionDef, ast.ClassDef))]
+            given = [node.targets[0].id for node in tree.body if isinstance(node, ast.Assign)]
+            bound[path.stem] = defined + given
+            self.assertEqual(len(set(bound[path.stem])), len(bound[path.stem]), path.name)
+        for name, node in nodes(ast.ImportFrom):
+            for part in node.names:
+                self.assertIn(part.name, bound[node.module.split(".")[1]], (name, part.name))
+                self.assertIsNone(part.asname, (name, part.name))
+
+    def test_values_at_the_top(self):
+        for path, tree in trees():
+            above = []
+            for node in tree.body:
+                if isinstance(node, ast.FunctionDef):
+                    above.append(node.name)
+                if not isinstance(node, ast.Assign):
+                    continue
+                inner = [part for part in ast.walk(node.value) if part is not node.value]
+                self.assertFalse([part for part in inner if isinstance(part, (ast.List, ast.Dict))], (path.name, node.lineno))
+                for part in ast.walk(node.value):
+                    self.assertIsInstance(part, (ast.Constant, ast.List, ast.Tuple, ast.Dict, ast.Name, ast.Load), path.name)
+                    self.assertTrue(not isinstance(part, ast.Name) or part.id in above, (path.name, node.lineno))
+
+    def test_errors_and_sets(self):
+        own = {node.name for name, node in nodes(ast.ClassDef) if name == "errors.py"}
+        for name, node in nodes(ast.ExceptHandler):
+            self.assertIn(node.type.id, own, (name, node.lineno))
+        for name, node in nodes(ast.Raise):
+            self.assertIsInstance(node.exc, ast.Call, (name, node.lineno))
+            self.assertIn(node.exc.func.id, own, (name, node.lineno))
+        for name, node in nodes((ast.Set, ast.Call)):
+            called = getattr(getattr(node, "func", None), "id", "")
+            self.assertFalse(isinstance(node, ast.Set) or called in ("set", "frozenset"), (name, node.lineno))
+
     def test_statements_and_values(self):
         for name, node in nodes(OUT):
             self.fail((name, getattr(node, "lineno", None), node))
